@@ -206,3 +206,21 @@ func TestStepsAreNoInputs(t *testing.T) {
 		wantTake(t, tape, 0, api.ErrInput)
 	}
 }
+
+// A tape's world can be reached, and be made shorter than the tape's place: no call panics.
+func TestTapeOfAWorldThatWasMadeShorter(t *testing.T) {
+	for size := range 3 {
+		tape := opened(t, 4, -5, 6)
+		tape.Go(3)
+		tape.Inputs = tape.Inputs[:size]
+		wantTape(t, tape, 3)
+		wantTake(t, tape, 0, api.ErrInput)
+		if e := tape.Go(3); e != api.ErrRange {
+			t.Errorf("P6: Go(3) of %d inputs: %d, want ErrRange", size, e)
+		}
+		if e := tape.Go(size); e != api.OK {
+			t.Errorf("P6: Go(%d) of %d inputs: %d", size, size, e)
+		}
+		wantTape(t, tape, size)
+	}
+}
