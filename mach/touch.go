@@ -49,7 +49,7 @@ func (m *Machine) storeAt(f *call, slot int) {
 	f.Names[slot].List = list
 }
 
-func isIn(list []int, place int) bool { return place >= 0 && place < len(list) }
+func isIn[T any](list []T, place int) bool { return place >= 0 && place < len(list) }
 
 func (m *Machine) makeArray(f *call, slot, size int) {
 	f.Names[slot].List = make([]int, size)
